@@ -1,0 +1,1 @@
+"""Chainkeep: a row of keepers that answers like one."""
