@@ -2,7 +2,11 @@
 
 
 class KeepError(ValueError):
-    """Any refusal."""
+    """Any refusal; its name is that of its class."""
+
+    def __init__(self, text):
+        ValueError.__init__(self, text)
+        self.name = self.__class__.__name__
 
 
 class BadDeed(KeepError):

@@ -1,6 +1,7 @@
 """What several tests need: chains made by hand, what holds in a chain, the lists in a thing."""
 
 from chainkeep.chains import begun
+from chainkeep.steps import steps_of
 
 PUT_1 = (0, 1, "put", "a", 5)
 ADD_1 = (1, 1, "add", "b", -3)
@@ -22,14 +23,7 @@ def made_chains():
         ([(list(LOG), 0, list(LOG), []), ([], 0, [], [])], None),
         ([(list(LOG), 1, LOG[3:], []), (LOG[:3], 3, [], [2, 3])], LOG[:2]),
         ([(list(LOG), 5, [], []), (list(LOG), 5, [], [5, 5])], []),
-        (
-            [
-                (list(LOG), 0, LOG[4:], []),
-                (LOG[:4], 1, LOG[2:4], [0, 1, 1]),
-                (LOG[:2], 2, [], [2]),
-            ],
-            LOG[:1],
-        ),
+        three_keepers(),
         (
             [(list(LOG), 2, LOG[4:], [])]
             + [(LOG[:4], 2, [], []) for _ in range(7)]
@@ -37,6 +31,73 @@ def made_chains():
             None,
         ),
     ] + [begun(many) for many in range(1, 10)]
+
+
+def still(log, many):
+    """The chain of so many keepers with this log and nothing under way."""
+    return [(list(log), len(log), [], []) for _ in range(many)], None
+
+
+def three_keepers():
+    """A chain with each kind of step to do: new lists at each call."""
+    return (
+        [
+            (list(LOG), 0, LOG[4:], []),
+            (LOG[:4], 1, LOG[2:4], [0, 1, 1]),
+            (LOG[:2], 2, [], [2]),
+        ],
+        LOG[:1],
+    )
+
+
+def turns_of(chain, asker):
+    """How many deeds of this asker the first keeper's log has."""
+    return len([deed for deed in chain[0][0][0] if deed[0] == asker])
+
+
+class Chance:
+    """Choices that only the seed tells, the same ones at each run."""
+
+    def __init__(self, seed):
+        self.state = seed
+        self.shrinks = seed % 2 == 1
+
+    def below(self, many):
+        """A number from 0 to many - 1."""
+        self.state = (self.state * 6364136223846793005 + 1442695040888963407) % 2 ** 64
+        return (self.state >> 33) % many
+
+    def one_of(self, things):
+        return things[self.below(len(things))]
+
+    def next_deed(self, chain, askers=3):
+        """A deed that is new to the first keeper's log."""
+        asker = self.below(askers)
+        word = self.one_of(("put", "add", "once", "away"))
+        value = 0 if word == "away" else self.below(9) - 4
+        return (asker, turns_of(chain, asker) + 1, word, self.one_of("abc"), value)
+
+    def doing(self, chain):
+        """Something to do with the chain; now and then it is refused."""
+        steps = steps_of(chain)
+        what = self.below(20)
+        if what < 5:
+            return ("take", self.next_deed(chain))
+        if what == 5:
+            asker, turn, word, key, value = self.next_deed(chain)
+            return ("take", (asker, turn + self.below(4) - 2, word, key, value))
+        if what == 6 and chain[0][0][0]:
+            return ("take", self.one_of(chain[0][0][0]))
+        # Rows that shrink come down to one keeper, the others up to nine.
+        if what == 7 or what == 8 and self.shrinks:
+            return ("fall", self.below(len(chain[0]) + 3) - 1)
+        if what in (8, 9):
+            return ("come", 0)
+        if what == 10 and self.below(5) == 0:
+            return ("quiet", 0)
+        if what == 11:
+            return (self.one_of(("pass", "back", "learn", "come", "rest")), self.below(12) - 1)
+        return self.one_of(steps) if steps else ("take", self.next_deed(chain))
 
 
 def lists_in(thing):

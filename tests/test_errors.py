@@ -34,6 +34,12 @@ class ErrorsTest(unittest.TestCase):
                     with self.subTest(name=name, other=other):
                         self.assertNotIsInstance(getattr(errors, name)("why"), getattr(errors, other))
 
+    def test_each_tells_the_name_of_its_class(self):
+        for name in NAMES + ("KeepError",):
+            refusal = getattr(errors, name)("why not")
+            self.assertEqual(refusal.name, name)
+            self.assertEqual(refusal.args, ("why not",))
+
     def test_each_is_called_what_the_document_calls_it(self):
         for name in NAMES:
             self.assertEqual(getattr(errors, name).__name__, name)

@@ -5,7 +5,7 @@ import inspect
 import pathlib
 import unittest
 
-from chainkeep import chains, deeds, errors
+from chainkeep import asking, chains, deeds, errors, falling, running, steps
 
 PACKAGE = pathlib.Path(__file__).resolve().parent.parent / "chainkeep"
 FUNCTIONS = (
@@ -15,6 +15,15 @@ FUNCTIONS = (
     (deeds, "plainly", ["deeds"]),
     (chains, "begun", ["many"]),
     (chains, "take", ["chain", "deed"]),
+    (steps, "steps_of", ["chain"]),
+    (steps, "done", ["chain", "step"]),
+    (steps, "quiet", ["chain"]),
+    (falling, "fall", ["chain", "place"]),
+    (falling, "come", ["chain"]),
+    (asking, "ask", ["chain", "key"]),
+    (asking, "told", ["chain", "asker", "turn"]),
+    (asking, "look", ["chain", "place", "key"]),
+    (running, "run", ["many", "doings"]),
 )
 
 
@@ -40,6 +49,14 @@ class InterfaceTest(unittest.TestCase):
         self.assertFalse(deeds.is_deed(thing="a"))
         chain = chains.take(chain=chains.begun(many=1), deed=(0, 1, "put", "a", 5))
         self.assertEqual(chain, ([([(0, 1, "put", "a", 5)], 1, [], [])], None))
+        chain = falling.come(chain=chain)
+        self.assertEqual(steps.steps_of(chain=chain), [("learn", 1)])
+        self.assertEqual(steps.done(chain=chain, step=("learn", 1)), steps.quiet(chain=chain))
+        self.assertEqual(falling.fall(chain=steps.quiet(chain=chain), place=0), (chain[0], None))
+        self.assertEqual(asking.ask(chain=chain, key="a"), 5)
+        self.assertEqual(asking.told(chain=chain, asker=0, turn=1), ("done", None))
+        self.assertEqual(asking.look(chain=chain, place=0, key="a"), ("sure", 5))
+        self.assertEqual(running.run(many=2, doings=[("fall", 1)]), (chains.begun(1), ["done"]))
 
     def test_errors_are_defined_in_their_file(self):
         for name in (

@@ -5,7 +5,7 @@ import unittest
 
 from chainkeep.chains import begun, take
 from chainkeep.errors import BadDeed, BadTurn, OtherDeed
-from tests.helping import HUGE, LOG, faults_of, lists_in, made_chains, spoil
+from tests.helping import HUGE, LOG, faults_of, lists_in, made_chains, spoil, turns_of
 
 NO_DEEDS = (
     None, True, False, 0, 1, -HUGE, "", "put", [], (), [LOG[0]], (LOG[0],), list(LOG[0]),
@@ -21,11 +21,6 @@ NO_DEEDS = (
     (0, 1, "put", "a", (5,)), (0, 1, "away", "a", 1), (0, 1, "away", "a", False),
     (0, 1, "put", "a"), (0, 1, "put", "a", 5, 0),
 )
-
-
-def turns_of(chain, asker):
-    """How many deeds of this asker the first keeper's log has."""
-    return len([deed for deed in chain[0][0][0] if deed[0] == asker])
 
 
 class MadeChainsTest(unittest.TestCase):
